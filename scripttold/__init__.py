@@ -1,0 +1,1 @@
+"""Scripts of conversations, read and told aloud."""
