@@ -5,20 +5,34 @@ from scripttold.loading import script_of
 from scripttold.oneform import one_form
 from scripttold.script import BOTH, TALK
 from scripttold.spelling import spelled
+from scripttold.telling import Telling
+from scripttold.tidying import are_alike, tidied
 from scripttold.walking import met_from, route_to
 
 LOAD = 0
+FIRST_OF_TELLING = 12
 
 NO_SCRIPT = -1
 NO_SUCH_THING = -2
+IS_NO_SCRIPT = -3
 NOT_REACHED = -4
+NO_TELLING = -5
+NO_SUCH_OPTION = -6
+LOG_IS_FULL = -7
+LOG_IS_EMPTY = -8
 NOT_FOUND = -9
 
 
-# The script is None while none is held.
+# The script is None while none is held, the telling while there is none.
 class Desk:
     def __init__(self):
         self.script = None
+        self.telling = None
+
+    # A telling speaks of states by the numbers of its own script, so it ends with it.
+    def hold(self, script):
+        self.script = script
+        self.telling = None
 
 
 def is_number_in(number, things):
@@ -30,9 +44,16 @@ def told_text(word):
     return [len(word)] + spelled(word)
 
 
+def told_pairs(pairs):
+    answer = [len(pairs)]
+    for pair in pairs:
+        answer.extend(pair)
+    return answer
+
+
 def answer_load(desk, given):
     try:
-        desk.script = script_of(given[0])
+        desk.hold(script_of(given[0]))
     except Fault as fault:
         return [0, fault.code, fault.place]
     return [1]
@@ -111,10 +132,61 @@ def answer_route(desk, given):
     steps = route_to(desk.script, given[0])
     if steps is None:
         return [NOT_REACHED]
-    answer = [len(steps)]
-    for step in steps:
-        answer.extend(step)
-    return answer
+    return told_pairs(steps)
+
+
+def answer_tidy(desk, given):
+    before = len(desk.script.states)
+    desk.hold(tidied(desk.script))
+    return [before - len(desk.script.states)]
+
+
+def answer_alike(desk, given):
+    try:
+        other = script_of(given[0])
+    except Fault:
+        return [IS_NO_SCRIPT]
+    return [1 if are_alike(desk.script, other) else 0]
+
+
+def answer_begin(desk, given):
+    desk.telling = Telling(desk.script)
+    return [len(desk.telling.options())]
+
+
+def answer_options(desk, given):
+    return told_pairs(desk.telling.options())
+
+
+def answer_choose(desk, given):
+    options = desk.telling.options()
+    if not is_number_in(given[0], options):
+        return [NO_SUCH_OPTION]
+    if desk.telling.is_full():
+        return [LOG_IS_FULL]
+    option = options[given[0]]
+    desk.telling.tell(option)
+    state = desk.script.states[option[0]]
+    return state.seats + list(option) + [state.branches[option[1]].behind]
+
+
+def answer_back(desk, given):
+    if len(desk.telling.log) == 0:
+        return [LOG_IS_EMPTY]
+    desk.telling.take_back()
+    return [len(desk.telling.options())]
+
+
+def answer_told(desk, given):
+    return told_pairs(desk.telling.log)
+
+
+def answer_run(desk, given):
+    return [desk.telling.tell_along(given[0])]
+
+
+def answer_standing(desk, given):
+    return [len(desk.telling.standing)] + desk.telling.standing
 
 
 # A call more is a row more: what answers it, how many whole numbers it has, how many rows stand behind these.
@@ -128,12 +200,23 @@ CALLS = {
     6: (answer_find, 0, 1),
     7: (answer_reach, 1, 0),
     8: (answer_route, 1, 0),
+    9: (answer_tidy, 0, 0),
+    10: (answer_alike, 0, 1),
+    11: (answer_begin, 0, 0),
+    12: (answer_options, 0, 0),
+    13: (answer_choose, 1, 0),
+    14: (answer_back, 0, 0),
+    15: (answer_told, 0, 0),
+    16: (answer_run, 0, 1),
+    17: (answer_standing, 0, 0),
 }
 
 
 def answer_call(desk, number, given):
     if number != LOAD and desk.script is None:
         return [NO_SCRIPT]
+    if number >= FIRST_OF_TELLING and desk.telling is None:
+        return [NO_TELLING]
     answer = CALLS[number][0]
     return answer(desk, given)
 

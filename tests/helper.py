@@ -5,7 +5,10 @@ import random
 from scripttold.desk import answers
 
 LOAD, SHOW, SIZES, SEAT, STATE, BRANCH, FIND, REACH, ROUTE = range(9)
+TIDY, ALIKE, BEGIN, OPTIONS, CHOOSE, BACK, TOLD, RUN, STANDING = range(9, 18)
 FAR = 10 ** 18
+# The calls that need a telling, one each.
+TALKING = [[OPTIONS], [CHOOSE, 0], [BACK], [TOLD], [RUN, 1, 0], [STANDING]]
 
 TILL = """script Till
 parties Buyer Shop Clerk
@@ -34,6 +37,33 @@ Lost = Cid -> Hat { back() Open ; on() Gone }
 Gone = end
 """
 
+# Boths within a both, a side that is an end, ends right behind a branch, talks that come back to themselves, states
+# (Nowhere, Lone, Last, Nowhere2) that nobody can come to, and a start state in the midst.
+NEST = """script Nest
+parties Ann Bob
+start Root
+Nowhere = Ann -> Bob { in() Root ; out() Last }
+Stop1 = end
+Low = Bob -> Ann { low1() Low ; low2() Stop1 }
+Root = both Deep Wide
+Lone = both Last Nowhere2
+Deep = both Quiet Low
+Quiet = end
+Wide = both High Far
+Stop2 = end
+High = Ann -> Bob { high1() Stop2 ; high2() Split ; high3() High }
+Split = both Pair1 Pair2
+Pair1 = Ann -> Bob { p1() Pair1 ; p2() Stop3 }
+Pair2 = Bob -> Ann { q1() Stop4 }
+Stop3 = end
+Stop4 = end
+Far = Bob -> Ann { far1() Stop5 ; far2() Far2 }
+Far2 = Ann -> Bob { far3() Far }
+Stop5 = end
+Last = end
+Nowhere2 = end
+"""
+
 
 def octets(text):
     """The bytes of a text; a list of bytes stays as it is."""
@@ -53,6 +83,14 @@ def find(text):
     return [FIND] + row(text)
 
 
+def alike(text):
+    return [ALIKE] + row(text)
+
+
+def run(*numbers):
+    return [RUN, len(numbers)] + list(numbers)
+
+
 def split(flat):
     """The answers, one list a call."""
     told = []
@@ -66,7 +104,9 @@ def split(flat):
 
 def ask(*calls):
     """What each of these calls on one new object answers."""
-    told = split(answers([number for call in calls for number in call]))
+    line = [number for call in calls for number in call]
+    assert len(calls) <= 400 and len(line) <= 17000
+    told = split(answers(line))
     assert len(told) == len(calls)
     return told
 
@@ -142,6 +182,49 @@ def some_scripts(seed, count):
     scripts = []
     while len(scripts) < count:
         text = some_text(dice)
+        if fault(text) is None:
+            scripts.append(text)
+    return scripts
+
+
+def some_region(dice, states, depth):
+    """Puts states into the dict that lead nowhere but to one another and into regions of their own; gives their names.
+
+    So the two sides of a both, each in its own region, share no state.
+    """
+    names = [f"s{len(states) + number}" for number in range(dice.randint(1, 3))]
+    states.update(dict.fromkeys(names))
+    for name in names:
+        kind = dice.choice(["end", "talk", "talk", "both", "both", "both"] if depth else ["end", "talk", "talk"])
+        if kind == "both":
+            sides = [dice.choice(some_region(dice, states, depth - 1)) for turn in range(2)]
+            states[name] = f"both {sides[0]} {sides[1]}"
+        elif kind == "end":
+            states[name] = "end"
+        else:
+            behind = [dice.choice(names) for turn in range(dice.randint(1, 3))]
+            branches = [f"b{number}() {other}" for number, other in enumerate(behind)]
+            states[name] = f"{dice.choice(['P -> Q', 'Q -> X', 'X -> P'])} {{ {' ; '.join(branches)} }}"
+    return names
+
+
+def woven_text(dice):
+    """A text with boths within boths; its states stand in any order, and some of them may be out of reach."""
+    states = {}
+    first = dice.choice(some_region(dice, states, 3))
+    if dice.random() < 0.5:
+        states["u0"] = f"P -> Q {{ a() {dice.choice(list(states))} ; b() u1 ; c() u0 }}"
+        states["u1"] = "end"
+    lines = [f"{name} = {states[name]}" for name in dice.sample(list(states), len(states))]
+    return "\n".join(["script W parties P Q seat X of Q start " + first] + lines)
+
+
+def woven_scripts(seed, count):
+    """Many scripts that stand at several talks at once, the same ones each time."""
+    dice = random.Random(seed)
+    scripts = []
+    while len(scripts) < count:
+        text = woven_text(dice)
         if fault(text) is None:
             scripts.append(text)
     return scripts

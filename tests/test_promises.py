@@ -3,14 +3,17 @@
 import re
 import unittest
 
-from tests.helper import BRANCH, FAIR, REACH, ROUTE, SHOW, SIZES, STATE, TILL, ask_of, row, shown, some_scripts
+from tests.helper import (BRANCH, FAIR, NEST, REACH, ROUTE, SEAT, SHOW, SIZES, STATE, TIDY, TILL, ask_of, row, shown,
+                          some_scripts, woven_scripts)
 
 
-def told_things(script):
-    """All that the calls tell of a script, but its one form."""
-    states = ask_of(script, [SIZES])[0][2]
-    calls = [[SIZES]] + [[call, number] for call in (3, STATE, REACH, ROUTE) for number in range(16)]
-    return ask_of(script, *(calls + [[BRANCH, state, branch] for state in range(states) for branch in range(8)]))
+def told_things(script, *front):
+    """All that the calls tell of a script behind these calls, but its one form."""
+    states = ask_of(script, *front, [SIZES])[-1][2]
+    calls = [[SIZES]] + [[SEAT, number] for number in range(16)]
+    calls += [[call, number] for call in (STATE, REACH, ROUTE) for number in range(states + 1)]
+    branches = [[BRANCH, state, branch] for state in range(states) for branch in range(5)]
+    return ask_of(script, *front, *calls)[len(front):] + ask_of(script, *front, *branches)[len(front):]
 
 
 class Promise1(unittest.TestCase):
@@ -18,13 +21,20 @@ class Promise1(unittest.TestCase):
     LINE = re.compile(r"[A-Za-z][A-Za-z0-9]*( [^\s]+)+")
 
     def test_the_one_form_loaded_again_shows_itself(self):
-        for script in some_scripts(1, 300) + [TILL, FAIR]:
+        for script in some_scripts(1, 300) + woven_scripts(1, 30) + [TILL, FAIR, NEST]:
             form = shown(script)
             self.assertEqual(shown(form), form)
 
     def test_the_one_form_is_the_same_script(self):
-        for script in some_scripts(11, 60) + [TILL, FAIR]:
+        for script in some_scripts(11, 60) + woven_scripts(11, 30) + [TILL, FAIR, NEST]:
             self.assertEqual(told_things(shown(script)), told_things(script))
+
+    def test_what_tidy_leaves_held(self):
+        """Its one form is a script again, the same one."""
+        for script in some_scripts(14, 60) + woven_scripts(14, 30) + [TILL, FAIR, NEST]:
+            form = bytes(ask_of(script, [TIDY], [SHOW])[1][1:]).decode("latin-1")
+            self.assertEqual(shown(form), form)
+            self.assertEqual(told_things(form), told_things(script, [TIDY]))
 
     def test_nothing_but_blanks_is_gone(self):
         """Without blanks and remarks, the text and its one form are the same bytes."""
@@ -51,16 +61,14 @@ class Promise1(unittest.TestCase):
         self.assertEqual(ask_of(text, [SHOW]), [row(form)])
 
 
-def steps_of(script, count):
-    """For each state the states behind it, by the calls state and branch."""
-    steps = []
-    for number, told in enumerate(ask_of(script, *[[STATE, number] for number in range(count)])):
-        if told[0] == 2:
-            steps.append(told[1:3])
-        elif told[0] == 1:
-            steps.append([ask_of(script, [BRANCH, number, branch])[0][0] for branch in range(told[3])])
-        else:
-            steps.append([])
+def steps_of(script, count, *front):
+    """For each state the states behind it, by the calls state and branch behind these calls."""
+    states = ask_of(script, *front, *[[STATE, number] for number in range(count)])[len(front):]
+    steps = [told[1:3] if told[0] == 2 else [] for told in states]
+    places = [(number, branch) for number, told in enumerate(states) if told[0] == 1 for branch in range(told[3])]
+    told = ask_of(script, *front, *[[BRANCH, number, branch] for number, branch in places])[len(front):]
+    for place, answer in zip(places, told):
+        steps[place[0]].append(answer[0])
     return steps
 
 
@@ -78,24 +86,33 @@ def distances(steps, start):
 class Promise3(unittest.TestCase):
 
     def test_routes(self):
-        routes = 0
-        refused = 0
-        for script in some_scripts(3, 300) + [TILL, FAIR]:
-            count, start = ask_of(script, [SIZES])[0][2:4]
-            steps = steps_of(script, count)
-            far = distances(steps, start)
-            met = ask_of(script, [REACH, start])[0][1:]
-            for number, told in enumerate(ask_of(script, *[[ROUTE, number] for number in range(count)])):
-                if number not in met:
-                    self.assertEqual(told, [-4])
-                    self.assertNotIn(number, far)
-                    refused += 1
-                    continue
+        answers = []
+        for script in some_scripts(3, 300) + woven_scripts(3, 30) + [TILL, FAIR, NEST]:
+            answers += self.checked_routes(script)
+        self.assertGreater(len(answers) - answers.count(-4), 500)
+        self.assertGreater(answers.count(-4), 200)
+
+    def test_routes_in_what_tidy_leaves_held(self):
+        answers = []
+        for script in some_scripts(33, 100) + woven_scripts(33, 30) + [TILL, FAIR, NEST]:
+            answers += self.checked_routes(script, [TIDY])
+        self.assertNotIn(-4, answers)
+
+    def checked_routes(self, script, *front):
+        """The first number that each route's answer has; each is looked at beside the steps."""
+        count, start = ask_of(script, *front, [SIZES])[-1][2:4]
+        steps = steps_of(script, count, *front)
+        far = distances(steps, start)
+        met = ask_of(script, *front, [REACH, start])[-1][1:]
+        answers = ask_of(script, *front, *[[ROUTE, number] for number in range(count)])[len(front):]
+        for number, told in enumerate(answers):
+            self.assertEqual(number in met, number in far)
+            if number in met:
                 self.assertEqual(told[0], far[number])
                 self.assertEqual(self.walk(steps, start, told), number)
-                routes += 1
-        self.assertGreater(routes, 500)
-        self.assertGreater(refused, 200)
+            else:
+                self.assertEqual(told, [-4])
+        return [told[0] for told in answers]
 
     def walk(self, steps, start, told):
         """Where the told route leads, each step being one from where the one before has led."""
